@@ -4,14 +4,10 @@ import itertools
 import unittest
 
 from tests.refusals import refused
+from tests.samples import exact
 from timestretch.clocks import gathered
 from timestretch.errors import BadOff, TooEarly
 from timestretch.letters import brought
-
-
-def exact(name, low, high):
-    """A letter that at the count nought swears from low to high and nothing more."""
-    return (name, 0, 0, low, high)
 
 
 def times(letters, name, now, off):

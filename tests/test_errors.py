@@ -6,6 +6,9 @@ from tests.refusals import REFUSALS, refused
 from timestretch import errors
 from timestretch.clocks import gathered
 from timestretch.letters import aged, brought, checked
+from timestretch.notes import read
+from timestretch.sure import lasting, sure
+from timestretch.watches import Watch
 
 
 class ErrorClasses(unittest.TestCase):
@@ -43,6 +46,21 @@ class Refusals(unittest.TestCase):
             (errors.TooEarly, brought, letter, 19, 5),
             (errors.BadOff, gathered, [letter], 20, 1000),
             (errors.TooEarly, gathered, [letter], 19, 5),
+            (errors.BadOff, sure, [letter], 20, 1000),
+            (errors.TooEarly, sure, [letter], 19, 5),
+            (errors.NoAgreement, sure, [], 19, 5),
+            (errors.BadCount, sure, [letter], 20, 5, 1),
+            (errors.NoAgreement, sure, [letter, ("bob", 10, 20, 500, 510)], 20, 5, 0),
+            (errors.BadOff, lasting, (0, 1), -1, 1),
+            (errors.TooWide, lasting, (0, 1), 5, 0),
+            (errors.BadOff, Watch, 1000),
+            (errors.BadName, Watch(0).put, ("", 10, 20, 100, 110)),
+            (errors.BadLetter, Watch(0).put, ("ada", 21, 20, 100, 110)),
+            (errors.NoClock, Watch(0).drop, "ada"),
+            (errors.NoAgreement, Watch(0).told, 20),
+            (errors.NoText, read, "ada"),
+            (errors.BadName, read, "Ada sent 10 back 20 swears 100 to 110\n"),
+            (errors.BadLetter, read, "ada sent 21 back 20 swears 100 to 110\n"),
         )
         for kind, action, *given in cases:
             with self.subTest(kind=kind.__name__, action=action.__name__):

@@ -1,12 +1,17 @@
-"""The rules of the language that can be counted: files, imports, signs and sizes (L1, L2, L7, L10, L14, L27)."""
+"""The rules of the language that can be counted: files, imports, signs and sizes (L1, L2, L7 to L10, L14, L27)."""
 
 import ast
+import builtins
 import pathlib
 import unittest
 
 PACKAGE = pathlib.Path(__file__).resolve().parent.parent / "timestretch"
 FILES = sorted(PACKAGE.rglob("*.py"))
 LIBRARY = ("heapq", "math", "itertools", "collections", "__future__")
+BUILTINS = (
+    "len range enumerate zip min max sum abs sorted reversed int str bool bytes list tuple dict set frozenset "
+    "isinstance ord repr any all divmod pow getattr hasattr setattr iter next map type super ValueError"
+).split()
 
 
 class Language(unittest.TestCase):
@@ -35,6 +40,25 @@ class Language(unittest.TestCase):
                 self.assertEqual(node.level, 0, path)
                 if node.module not in LIBRARY:
                     self.assertTrue(node.module.startswith("timestretch."), (path, node.module))
+
+    def test_no_builtin_that_reaches_the_machine(self):
+        """Point 1 as well: no clock, chance or files, which begin with open, input, __import__ and their kin."""
+        for path, node in nodes():
+            if isinstance(node, ast.Name) and node.id in dir(builtins):
+                self.assertIn(node.id, BUILTINS, path)
+
+    def test_no_decorators_no_global_state(self):
+        for path, node in nodes():
+            if isinstance(node, (ast.FunctionDef, ast.ClassDef)):
+                self.assertEqual(node.decorator_list, [], (path, node.name))
+            self.assertNotIsInstance(node, (ast.Global, ast.Nonlocal), path)
+            if isinstance(node, ast.Module):
+                for statement in node.body:
+                    kinds = (ast.Expr, ast.ImportFrom, ast.FunctionDef, ast.ClassDef, ast.Assign)
+                    self.assertIsInstance(statement, kinds, path)
+                    if isinstance(statement, ast.Assign):
+                        # A number, a string or a tuple of these: nothing that could be changed.
+                        hash(ast.literal_eval(statement.value))
 
     def test_no_floats_and_no_percent_signs(self):
         for path, node in nodes():

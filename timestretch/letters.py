@@ -42,6 +42,12 @@ def slack(passed, off):
     return (passed * off + 999) // 1000
 
 
+def longest_within(spread, off):
+    """The most ticks whose slack is not above spread; off is not nought."""
+    # Spread is whole, so the slack, rounded up, keeps to it just where the share does.
+    return spread * 1000 // off
+
+
 def aged(stretch, passed, off):
     """What the stretch comes to, passed ticks later."""
     check_off(off)
